@@ -1,0 +1,97 @@
+package venue_test
+
+import (
+	"fmt"
+	"slices"
+	"testing"
+
+	"venue/api"
+	"venue/venue"
+)
+
+const tooLarge = api.MaxNumber + 1
+
+// noNumbers: what is no price, no quantity, no id.
+var noNumbers = []int{0, -1, tooLarge, 1 << 62, -1 << 63, 1<<63 - 1, 1<<32 + 1}
+
+// opened makes a venue with these symbols.
+func opened(t *testing.T, symbols ...string) *venue.Venue {
+	t.Helper()
+	v := venue.New()
+	for _, s := range symbols {
+		wantErrno(t, "List "+s, v.List(s), api.OK)
+	}
+	return v
+}
+
+func wantErrno(t *testing.T, what string, got, want api.Errno) {
+	t.Helper()
+	if got != want {
+		t.Errorf("%s: error %d, want %d", what, got, want)
+	}
+}
+
+// order makes one of the symbol A.
+func order(id, owner, side, kind, price, quantity int) api.Order {
+	return api.Order{ID: id, Owner: owner, Symbol: "A", Side: side, Kind: kind, Price: price, Quantity: quantity}
+}
+
+func enter(t *testing.T, v *venue.Venue, o api.Order, want api.Report) {
+	t.Helper()
+	if got, e := v.Enter(o); got != want || e != api.OK {
+		t.Errorf("Enter(%+v) = %+v, %d, want %+v", o, got, e, want)
+	}
+}
+
+// rest enters an order of which all must rest.
+func rest(t *testing.T, v *venue.Venue, o api.Order) {
+	t.Helper()
+	enter(t, v, o, api.Report{Rests: o.Quantity})
+}
+
+func refuse(t *testing.T, v *venue.Venue, o api.Order, want api.Errno) {
+	t.Helper()
+	if got, e := v.Enter(o); got != (api.Report{}) || e != want {
+		t.Errorf("Enter(%+v) = %+v, %d, want error %d", o, got, e, want)
+	}
+}
+
+func replace(t *testing.T, v *venue.Venue, id, price, quantity int, want api.Report, wantE api.Errno) {
+	t.Helper()
+	if got, e := v.Replace(id, price, quantity); got != want || e != wantE {
+		t.Errorf("Replace(%d, %d, %d) = %+v, %d, want %+v, %d", id, price, quantity, got, e, want, wantE)
+	}
+}
+
+// counts holds what became of an order against: entered, open, filled, cancelled, expired.
+func counts(t *testing.T, v *venue.Venue, id int, want ...int) {
+	t.Helper()
+	s, e := v.Status(id)
+	if got := []int{s.Entered, s.Open, s.Filled, s.Cancelled, s.Expired}; !slices.Equal(got, want) || e != api.OK {
+		t.Errorf("Status(%d) = %v, %d, want %v", id, got, e, want)
+	}
+}
+
+// side holds a side of the book of A against levels.
+func side(t *testing.T, v *venue.Venue, side int, want ...api.Level) {
+	t.Helper()
+	if got, e := v.Book("A", side); !slices.Equal(got, want) || e != api.OK {
+		t.Errorf("Book(A, %d) = %v, %d, want %v", side, got, e, want)
+	}
+}
+
+// picture tells all that can be asked of a venue with these symbols and ids.
+func picture(v *venue.Venue, symbols []string, ids []int) string {
+	all := ""
+	for _, s := range symbols {
+		for _, side := range []int{api.Buy, api.Sell} {
+			levels, e := v.Book(s, side)
+			all += fmt.Sprintln("book", s, side, levels, e)
+		}
+	}
+	for _, id := range ids {
+		status, e := v.Status(id)
+		all += fmt.Sprintf("%+v %d\n", status, e)
+	}
+	return all
+}

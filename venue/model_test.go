@@ -1,0 +1,331 @@
+package venue_test
+
+import (
+	"fmt"
+	"math/rand/v2"
+	"slices"
+	"testing"
+
+	"venue/api"
+	"venue/venue"
+)
+
+// model: the words of the document done as plainly as can be, without a heap: the open orders of a
+// symbol lie in one list in the order in which they came there, and all of it is gone through each time.
+type model struct {
+	names  []string
+	open   map[string][]*api.Status
+	orders map[int]*api.Status
+	trades int
+}
+
+func newModel() *model {
+	return &model{open: map[string][]*api.Status{}, orders: map[int]*api.Status{}}
+}
+
+func (m *model) list(name string, isName bool) api.Errno {
+	if !isName {
+		return api.ErrName
+	}
+	if slices.Contains(m.names, name) {
+		return api.ErrTaken
+	}
+	if len(m.names) == api.MaxSymbols {
+		return api.ErrLimit
+	}
+	m.names = append(m.names, name)
+	return api.OK
+}
+
+func isGood(o api.Order, waits *api.Status) bool {
+	if o.Side == waits.Order.Side {
+		return false
+	}
+	if o.Side == api.Buy {
+		return o.Kind == api.Market || waits.Order.Price <= o.Price
+	}
+	return o.Kind == api.Market || waits.Order.Price >= o.Price
+}
+
+// goods gives the orders that are good, by rank.
+func (m *model) goods(o api.Order) []*api.Status {
+	var all []*api.Status
+	for _, w := range m.open[o.Symbol] {
+		if isGood(o, w) {
+			all = append(all, w)
+		}
+	}
+	slices.SortStableFunc(all, func(a, b *api.Status) int {
+		if o.Side == api.Buy {
+			return a.Order.Price - b.Order.Price
+		}
+		return b.Order.Price - a.Order.Price
+	})
+	return all
+}
+
+func outside(n, low, high int) bool { return n < low || n > high }
+
+func (m *model) enter(o api.Order) (api.Report, api.Errno) {
+	low, high := 1, api.MaxNumber
+	if o.Kind == api.Market {
+		low, high = 0, 0
+	}
+	supply := 0
+	for _, w := range m.goods(o) {
+		if w.Order.Owner != o.Owner {
+			supply += w.Open
+		}
+	}
+	for _, c := range []struct {
+		applies bool
+		e       api.Errno
+	}{
+		{outside(o.ID, 1, api.MaxNumber), api.ErrID},
+		{m.orders[o.ID] != nil, api.ErrTaken},
+		{outside(o.Owner, 0, api.MaxOwner), api.ErrRange},
+		{outside(o.Side, 0, 1), api.ErrRange},
+		{outside(o.Kind, 0, 5), api.ErrKind},
+		{outside(o.Quantity, 1, api.MaxNumber), api.ErrRange},
+		{outside(o.Price, low, high), api.ErrRange},
+		{!slices.Contains(m.names, o.Symbol), api.ErrUnknown},
+		{len(m.orders) == api.MaxOrders, api.ErrLimit},
+		{o.Kind == api.Post && len(m.goods(o)) > 0, api.ErrCross},
+		{o.Kind == api.Whole && supply < o.Quantity, api.ErrWhole},
+	} {
+		if c.applies {
+			return api.Report{}, c.e
+		}
+	}
+	s := &api.Status{Order: o, Entered: o.Quantity}
+	m.orders[o.ID] = s
+	return m.come(s, o.Quantity), api.OK
+}
+
+func (m *model) come(s *api.Status, left int) api.Report {
+	r := api.Report{}
+	for _, w := range m.goods(s.Order) {
+		if left == 0 {
+			break
+		}
+		if w.Order.Owner == s.Order.Owner {
+			m.close(w)
+			continue
+		}
+		n := min(left, w.Open)
+		left -= n
+		s.Filled += n
+		r.Filled += n
+		w.Open -= n
+		w.Filled += n
+		m.trades++
+		r.Count++
+		if r.First == 0 {
+			r.First = m.trades
+		}
+		if w.Open == 0 {
+			m.remove(w)
+		}
+	}
+	switch s.Order.Kind {
+	case api.Now, api.Whole, api.Market:
+		s.Cancelled += left
+		r.Cancelled = left
+	default:
+		s.Open = left
+		r.Rests = left
+		if left > 0 {
+			m.open[s.Order.Symbol] = append(m.open[s.Order.Symbol], s)
+		}
+	}
+	return r
+}
+
+func (m *model) remove(s *api.Status) {
+	m.open[s.Order.Symbol] = slices.DeleteFunc(m.open[s.Order.Symbol], func(w *api.Status) bool { return w == s })
+}
+
+func (m *model) close(s *api.Status) {
+	m.remove(s)
+	s.Cancelled += s.Open
+	s.Open = 0
+}
+
+func (m *model) cancel(id int) api.Errno {
+	s := m.orders[id]
+	if s == nil {
+		return api.ErrUnknown
+	}
+	if s.Open == 0 {
+		return api.ErrClosed
+	}
+	m.close(s)
+	return api.OK
+}
+
+func (m *model) replace(id, price, quantity int) (api.Report, api.Errno) {
+	s := m.orders[id]
+	if s == nil {
+		return api.Report{}, api.ErrUnknown
+	}
+	if s.Open == 0 {
+		return api.Report{}, api.ErrClosed
+	}
+	if outside(price, 1, api.MaxNumber) || outside(quantity, 1, api.MaxNumber) {
+		return api.Report{}, api.ErrRange
+	}
+	was := s.Open
+	s.Entered += quantity - was
+	if price == s.Order.Price && quantity <= was {
+		s.Open = quantity
+		return api.Report{Rests: quantity}, api.OK
+	}
+	m.remove(s)
+	s.Open = 0
+	s.Order.Price = price
+	return m.come(s, quantity), api.OK
+}
+
+func (m *model) book(symbol string, side int) []api.Level {
+	sums := map[int]api.Level{}
+	for _, w := range m.open[symbol] {
+		if w.Order.Side == side {
+			l := sums[w.Order.Price]
+			sums[w.Order.Price] = api.Level{Price: w.Order.Price, Quantity: l.Quantity + w.Open, Orders: l.Orders + 1}
+		}
+	}
+	var all []api.Level
+	for _, l := range sums {
+		all = append(all, l)
+	}
+	slices.SortFunc(all, func(a, b api.Level) int {
+		if side == api.Buy {
+			return b.Price - a.Price
+		}
+		return a.Price - b.Price
+	})
+	return all
+}
+
+// anyNumber gives mostly a number from low to high, and now and then one that is wrong or far off.
+func anyNumber(r *rand.Rand, low, high int) int {
+	if r.IntN(40) == 0 {
+		return []int{low - 1, api.MaxNumber + 1, -1, 0, 1 << 62, -1 << 63, api.MaxNumber}[r.IntN(7)]
+	}
+	return low + r.IntN(high-low+1)
+}
+
+func anyOrder(r *rand.Rand) api.Order {
+	o := api.Order{
+		ID: anyNumber(r, 1, 400), Owner: anyNumber(r, 0, 4), Symbol: "A",
+		Side: r.IntN(2), Kind: r.IntN(6), Price: anyNumber(r, 95, 105), Quantity: anyNumber(r, 1, 20),
+	}
+	switch r.IntN(12) {
+	case 0:
+		o.Symbol = "C"
+	case 1, 2:
+		o.Symbol = "Α"
+	case 3:
+		o.Kind = r.IntN(9) - 1
+		o.Side = r.IntN(4) - 1
+	}
+	if o.Kind == api.Market && r.IntN(10) > 0 {
+		o.Price = 0
+	}
+	return o
+}
+
+// step does one act of any kind with both, and tells what both answered.
+func step(r *rand.Rand, v *venue.Venue, m *model) (what, got, want string) {
+	id, price, quantity := anyNumber(r, 1, 400), anyNumber(r, 95, 105), anyNumber(r, 1, 20)
+	switch r.IntN(8) {
+	case 0:
+		name := []string{"A", "Α", "B", "", "a", "D1"}[r.IntN(6)]
+		return "List " + name, fmt.Sprint(v.List(name)), fmt.Sprint(m.list(name, name != "" && name != "a"))
+	case 1:
+		return fmt.Sprint("Cancel ", id), fmt.Sprint(v.Cancel(id)), fmt.Sprint(m.cancel(id))
+	case 2, 3:
+		if s := m.orders[id]; s != nil && r.IntN(2) == 0 {
+			price = s.Order.Price
+		}
+		report, e := v.Replace(id, price, quantity)
+		wantReport, wantE := m.replace(id, price, quantity)
+		return fmt.Sprint("Replace ", id, price, quantity), fmt.Sprint(report, e), fmt.Sprint(wantReport, wantE)
+	}
+	o := anyOrder(r)
+	report, e := v.Enter(o)
+	wantReport, wantE := m.enter(o)
+	return fmt.Sprintf("Enter %+v", o), fmt.Sprint(report, e), fmt.Sprint(wantReport, wantE)
+}
+
+// askedIDs: all ids that anyNumber gives and that may be taken, and some beside.
+func askedIDs() []int {
+	ids := []int{-1, 401, api.MaxNumber, api.MaxNumber + 1}
+	for id := range 401 {
+		ids = append(ids, id)
+	}
+	return ids
+}
+
+// compare holds all that can be asked of both against each other.
+func compare(t *testing.T, v *venue.Venue, m *model) {
+	t.Helper()
+	for _, name := range m.names {
+		for _, side := range []int{api.Buy, api.Sell} {
+			if got, e := v.Book(name, side); !slices.Equal(got, m.book(name, side)) || e != api.OK {
+				t.Fatalf("Book(%s, %d) = %v, %d, want %v", name, side, got, e, m.book(name, side))
+			}
+		}
+	}
+	for _, id := range askedIDs() {
+		got, e := v.Status(id)
+		want, wantE := api.Status{}, api.ErrUnknown
+		if s := m.orders[id]; s != nil {
+			want, wantE = *s, api.OK
+		}
+		if got != want || e != wantE {
+			t.Fatalf("Status(%d) = %+v, %d, want %+v, %d", id, got, e, want, wantE)
+		}
+	}
+}
+
+// leanedOn holds what callers lean on of the orders and the book of a symbol.
+func leanedOn(t *testing.T, v *venue.Venue, symbol string) {
+	t.Helper()
+	filled := [2]int{}
+	for _, id := range askedIDs() {
+		s, e := v.Status(id)
+		if s.Entered != s.Open+s.Filled+s.Cancelled+s.Expired {
+			t.Fatalf("Status(%d) = %+v: the parts are not what was entered", id, s)
+		}
+		if e == api.OK && s.Order.Symbol == symbol {
+			filled[s.Order.Side] += s.Filled
+		}
+	}
+	if filled[api.Buy] != filled[api.Sell] {
+		t.Fatalf("%s: bought %d, sold %d", symbol, filled[api.Buy], filled[api.Sell])
+	}
+	buys, _ := v.Book(symbol, api.Buy)
+	sells, _ := v.Book(symbol, api.Sell)
+	if len(buys) > 0 && len(sells) > 0 && buys[0].Price >= sells[0].Price {
+		t.Fatalf("%s: %v is good for %v", symbol, buys[0], sells[0])
+	}
+}
+
+// Long rows of acts, right and wrong ones: the venue answers each as the plain model does.
+func TestAnswersAsThePlainModel(t *testing.T) {
+	for seed := range uint64(40) {
+		r := rand.New(rand.NewPCG(seed, 1))
+		v, m := venue.New(), newModel()
+		for range 600 {
+			what, got, want := step(r, v, m)
+			if got != want {
+				t.Fatalf("seed %d: %s: %s, want %s", seed, what, got, want)
+			}
+			compare(t, v, m)
+		}
+		for _, name := range m.names {
+			leanedOn(t, v, name)
+		}
+	}
+}

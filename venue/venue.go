@@ -1,0 +1,134 @@
+// Package venue: a market whose every act can be undone, and whose tape is put right: see DOC.md.
+package venue
+
+import (
+	"strings"
+
+	"venue/api"
+	"venue/book"
+)
+
+// Venue: symbols, orders, trades, the tape, the journal.
+type Venue struct {
+	books  map[string]*book.Book // by symbol
+	orders map[int]*book.Order   // by id; also those of which nothing is open
+	trades int                   // the number of the last trade
+}
+
+// New makes a venue without anything.
+func New() *Venue {
+	return &Venue{books: map[string]*book.Book{}, orders: map[int]*book.Order{}}
+}
+
+// Restore makes a venue of a journal (P12).
+func Restore(journal string) (*Venue, api.Errno, int) { return nil, api.OK, 0 }
+
+// List lets a symbol be traded (P3).
+func (v *Venue) List(symbol string) api.Errno {
+	switch {
+	case !isName(symbol):
+		return api.ErrName
+	case v.books[symbol] != nil:
+		return api.ErrTaken
+	case len(v.books) >= api.MaxSymbols:
+		return api.ErrLimit
+	}
+	own := strings.Clone(symbol) // the caller's text may be a piece of a long one, and is not kept
+	v.books[own] = book.New(own)
+	return api.OK
+}
+
+// Enter lets an order come (P4).
+func (v *Venue) Enter(o api.Order) (api.Report, api.Errno) {
+	if e := v.refusal(o); e != api.OK {
+		return api.Report{}, e
+	}
+	b := v.books[o.Symbol]
+	o.Symbol = b.Symbol // the caller's text is not kept
+	order := book.NewOrder(o)
+	v.orders[o.ID] = order
+	return v.come(b, order), api.OK
+}
+
+// Cancel cancels what is open of an order (P5).
+func (v *Venue) Cancel(id int) api.Errno {
+	o := v.orders[id]
+	switch {
+	case o == nil:
+		return api.ErrUnknown
+	case o.Open == 0:
+		return api.ErrClosed
+	}
+	v.books[o.Order.Symbol].Leave(o)
+	o.CancelOpen()
+	return api.OK
+}
+
+// Replace gives an order another price and quantity (P6).
+func (v *Venue) Replace(id int, price int, quantity int) (api.Report, api.Errno) {
+	o := v.orders[id]
+	switch {
+	case o == nil:
+		return api.Report{}, api.ErrUnknown
+	case o.Open == 0:
+		return api.Report{}, api.ErrClosed
+	case !isNumber(price) || !isNumber(quantity):
+		return api.Report{}, api.ErrRange
+	}
+	b := v.books[o.Order.Symbol]
+	keepsPlace := price == o.Order.Price && quantity <= o.Open
+	if !keepsPlace {
+		b.Leave(o)
+	}
+	o.Entered += quantity - o.Open
+	o.Open = quantity
+	if keepsPlace {
+		return api.Report{Rests: quantity}, api.OK
+	}
+	o.Order.Price = price
+	return v.come(b, o), api.OK
+}
+
+// Bust lets a trade hold no longer (P7).
+func (v *Venue) Bust(trade int, again bool) api.Errno { return api.OK }
+
+// Correct gives a trade another price (P8).
+func (v *Venue) Correct(trade int, price int) api.Errno { return api.OK }
+
+// Close ends the day (P9).
+func (v *Venue) Close() {}
+
+// Undo undoes the last act (P10).
+func (v *Venue) Undo() api.Errno { return api.OK }
+
+// Status tells what became of an order (P11).
+func (v *Venue) Status(id int) (api.Status, api.Errno) {
+	o := v.orders[id]
+	if o == nil {
+		return api.Status{}, api.ErrUnknown
+	}
+	s := o.Status
+	s.Order.Symbol = strings.Clone(s.Order.Symbol)
+	return s, api.OK
+}
+
+// Book tells a side of a symbol's book (P11).
+func (v *Venue) Book(symbol string, side int) ([]api.Level, api.Errno) {
+	b := v.books[symbol]
+	switch {
+	case b == nil:
+		return nil, api.ErrUnknown
+	case !isSide(side):
+		return nil, api.ErrRange
+	}
+	return b.Levels(side), api.OK
+}
+
+// Trades tells the trades that hold (P11).
+func (v *Venue) Trades() []api.Trade { return nil }
+
+// Tape tells the records from a number on (P11).
+func (v *Venue) Tape(from int) []api.Record { return nil }
+
+// Journal tells all acts (P12).
+func (v *Venue) Journal() string { return "" }
