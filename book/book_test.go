@@ -94,3 +94,26 @@ func TestSupply(t *testing.T) {
 		}
 	}
 }
+
+// Whatever becomes of an order's quantity, the parts are what was entered.
+func TestOrderCounts(t *testing.T) {
+	o := NewOrder(api.Order{ID: 1, Price: 5, Quantity: 20})
+	for i, c := range []struct {
+		act                              func()
+		open, filled, cancelled, expired int
+	}{
+		{func() {}, 20, 0, 0, 0},
+		{func() { o.Fill(9) }, 11, 9, 0, 0},
+		{o.CancelOpen, 0, 9, 11, 0},
+		{func() { o.OpenFilled(4) }, 4, 5, 11, 0},
+		{func() { o.CancelFilled(2) }, 4, 3, 13, 0},
+		{o.ExpireOpen, 0, 3, 13, 4},
+		{func() { o.OpenFilled(3) }, 3, 0, 13, 4},
+		{o.ExpireOpen, 0, 0, 13, 7},
+	} {
+		c.act()
+		if want := (api.Status{Order: o.Order, Entered: 20, Open: c.open, Filled: c.filled, Cancelled: c.cancelled, Expired: c.expired}); o.Status != want {
+			t.Errorf("behind act %d: %+v, want %+v", i, o.Status, want)
+		}
+	}
+}

@@ -26,6 +26,24 @@ func (o *Order) CancelOpen() {
 	o.Open = 0
 }
 
+// ExpireOpen lets all that is open be expired.
+func (o *Order) ExpireOpen() {
+	o.Expired += o.Open
+	o.Open = 0
+}
+
+// OpenFilled lets some of what is filled be open again.
+func (o *Order) OpenFilled(quantity int) {
+	o.Filled -= quantity
+	o.Open += quantity
+}
+
+// CancelFilled lets some of what is filled be cancelled.
+func (o *Order) CancelFilled(quantity int) {
+	o.Filled -= quantity
+	o.Cancelled += quantity
+}
+
 // Rests tells whether what is not traded of the order waits in the book.
 func (o *Order) Rests() bool {
 	switch o.Order.Kind {

@@ -93,5 +93,36 @@ func picture(v *venue.Venue, symbols []string, ids []int) string {
 		status, e := v.Status(id)
 		all += fmt.Sprintf("%+v %d\n", status, e)
 	}
-	return all
+	return all + fmt.Sprintf("%+v\n%+v\n", v.Trades(), v.Tape(0))
+}
+
+// of makes a trade of the symbol A.
+func of(number, price, quantity, buy, sell, day int) api.Trade {
+	return api.Trade{Number: number, Symbol: "A", Price: price, Quantity: quantity, Buy: buy, Sell: sell, Day: day}
+}
+
+// hold holds the trades that hold against these.
+func hold(t *testing.T, v *venue.Venue, want ...api.Trade) {
+	t.Helper()
+	if got := v.Trades(); !slices.Equal(got, want) {
+		t.Errorf("Trades() = %+v, want %+v", got, want)
+	}
+}
+
+// told: a record without its number.
+type told struct {
+	kind  int
+	trade api.Trade
+}
+
+// tape holds all records against these, which are numbered from 1 on.
+func tape(t *testing.T, v *venue.Venue, want ...told) {
+	t.Helper()
+	var all []api.Record
+	for i, w := range want {
+		all = append(all, api.Record{Number: i + 1, Kind: w.kind, Trade: w.trade})
+	}
+	if got := v.Tape(1); !slices.Equal(got, all) {
+		t.Errorf("Tape(1) =\n%+v, want\n%+v", got, all)
+	}
 }

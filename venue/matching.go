@@ -7,7 +7,7 @@ import (
 
 // come lets an order that is in no book trade with what is good for it; what is left rests or is cancelled.
 func (v *Venue) come(b *book.Book, o *book.Order) api.Report {
-	before, trades := o.Status, v.trades
+	before, trades := o.Status, len(v.trades)
 	v.match(b, o)
 	if o.Open > 0 && o.Rests() {
 		b.Rest(o)
@@ -15,8 +15,8 @@ func (v *Venue) come(b *book.Book, o *book.Order) api.Report {
 		o.CancelOpen()
 	}
 	r := api.Report{Filled: o.Filled - before.Filled, Rests: o.Open, Cancelled: o.Cancelled - before.Cancelled}
-	if v.trades > trades {
-		r.First, r.Count = trades+1, v.trades-trades
+	if len(v.trades) > trades {
+		r.First, r.Count = trades+1, len(v.trades)-trades
 	}
 	return r
 }
@@ -37,13 +37,20 @@ func (v *Venue) match(b *book.Book, o *book.Order) {
 	}
 }
 
-// trade lets an order that comes and one that waits trade as much as both have.
+// trade lets an order that comes and one that waits trade as much as both have, at the price of the one that waits.
 func (v *Venue) trade(b *book.Book, comes, waits *book.Order) {
 	quantity := min(comes.Open, waits.Open)
 	comes.Fill(quantity)
 	waits.Fill(quantity)
-	v.trades++
 	if waits.Open == 0 {
 		b.Leave(waits)
 	}
+	buys, sells := comes, waits
+	if comes.Order.Side == api.Sell {
+		buys, sells = waits, comes
+	}
+	v.addTrade(api.Trade{
+		Symbol: b.Symbol, Price: waits.Order.Price, Quantity: quantity,
+		Buy: buys.Order.ID, Sell: sells.Order.ID,
+	})
 }

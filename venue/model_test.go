@@ -2,6 +2,7 @@ package venue_test
 
 import (
 	"fmt"
+	"maps"
 	"math/rand/v2"
 	"slices"
 	"testing"
@@ -16,11 +17,14 @@ type model struct {
 	names  []string
 	open   map[string][]*api.Status
 	orders map[int]*api.Status
-	trades int
+	trades []api.Trade // all that ever were
+	busted []int
+	tape   []api.Record
+	day    int
 }
 
 func newModel() *model {
-	return &model{open: map[string][]*api.Status{}, orders: map[int]*api.Status{}}
+	return &model{open: map[string][]*api.Status{}, orders: map[int]*api.Status{}, day: 1}
 }
 
 func (m *model) list(name string, isName bool) api.Errno {
@@ -118,10 +122,10 @@ func (m *model) come(s *api.Status, left int) api.Report {
 		r.Filled += n
 		w.Open -= n
 		w.Filled += n
-		m.trades++
+		m.print(s, w, n)
 		r.Count++
 		if r.First == 0 {
-			r.First = m.trades
+			r.First = len(m.trades)
 		}
 		if w.Open == 0 {
 			m.remove(w)
@@ -186,6 +190,87 @@ func (m *model) replace(id, price, quantity int) (api.Report, api.Errno) {
 	return m.come(s, quantity), api.OK
 }
 
+func (m *model) print(comes, waits *api.Status, quantity int) {
+	x := api.Trade{Number: len(m.trades) + 1, Symbol: comes.Order.Symbol, Price: waits.Order.Price, Quantity: quantity, Day: m.day}
+	for _, s := range []*api.Status{comes, waits} {
+		if s.Order.Side == api.Buy {
+			x.Buy = s.Order.ID
+		} else {
+			x.Sell = s.Order.ID
+		}
+	}
+	m.trades = append(m.trades, x)
+	m.tell(api.Print, x)
+}
+
+func (m *model) tell(kind int, x api.Trade) {
+	m.tape = append(m.tape, api.Record{Number: len(m.tape) + 1, Kind: kind, Trade: x})
+}
+
+func (m *model) mayPutRight(number int) api.Errno {
+	if outside(number, 1, len(m.trades)) {
+		return api.ErrUnknown
+	}
+	if slices.Contains(m.busted, number) {
+		return api.ErrClosed
+	}
+	if m.trades[number-1].Day < m.day {
+		return api.ErrDay
+	}
+	return api.OK
+}
+
+func (m *model) bust(number int, again bool) api.Errno {
+	if e := m.mayPutRight(number); e != api.OK {
+		return e
+	}
+	x := m.trades[number-1]
+	m.busted = append(m.busted, number)
+	for _, id := range []int{x.Buy, x.Sell} {
+		s := m.orders[id]
+		s.Filled -= x.Quantity
+		rests := slices.Contains([]int{api.Limit, api.Day, api.Post}, s.Order.Kind)
+		if again && rests && len(m.goods(s.Order)) == 0 {
+			s.Open += x.Quantity
+			m.remove(s)
+			m.open[x.Symbol] = append(m.open[x.Symbol], s)
+		} else {
+			s.Cancelled += x.Quantity
+		}
+	}
+	m.tell(api.Bust, x)
+	return api.OK
+}
+
+func (m *model) correct(number, price int) api.Errno {
+	if e := m.mayPutRight(number); e != api.OK {
+		return e
+	}
+	if outside(price, 1, api.MaxNumber) {
+		return api.ErrRange
+	}
+	m.trades[number-1].Price = price
+	m.tell(api.Correct, m.trades[number-1])
+	return api.OK
+}
+
+func (m *model) endDay() {
+	for _, s := range m.orders {
+		if s.Order.Kind == api.Day {
+			m.remove(s)
+			s.Expired += s.Open
+			s.Open = 0
+		}
+	}
+	m.tell(api.Close, api.Trade{Day: m.day})
+	m.day++
+}
+
+// held gives the trades that hold.
+func (m *model) held() []api.Trade {
+	return slices.DeleteFunc(slices.Clone(m.trades), func(x api.Trade) bool { return slices.Contains(m.busted, x.Number) })
+}
+
 func (m *model) book(symbol string, side int) []api.Level {
 	sums := map[int]api.Level{}
 	for _, w := range m.open[symbol] {
@@ -235,10 +320,23 @@ func anyOrder(r *rand.Rand) api.Order {
 	return o
 }
 
+// anyID gives mostly the id of an open order, and now and then of any other, or one that is wrong.
+func anyID(r *rand.Rand, m *model) int {
+	if open := m.open["A"]; len(open) > 0 && r.IntN(4) > 0 {
+		return open[r.IntN(len(open))].Order.ID
+	}
+	return anyNumber(r, 1, 400)
+}
+
+// anyTrade gives mostly the number of one of the last trades, and now and then one that is wrong or far off.
+func anyTrade(r *rand.Rand, m *model) int {
+	return anyNumber(r, max(0, len(m.trades)-12), len(m.trades)+1)
+}
+
 // step does one act of any kind with both, and tells what both answered.
 func step(r *rand.Rand, v *venue.Venue, m *model) (what, got, want string) {
-	id, price, quantity := anyNumber(r, 1, 400), anyNumber(r, 95, 105), anyNumber(r, 1, 20)
-	switch r.IntN(8) {
+	id, price, quantity := anyID(r, m), anyNumber(r, 95, 105), anyNumber(r, 1, 20)
+	switch r.IntN(14) {
 	case 0:
 		name := []string{"A", "Α", "B", "", "a", "D1"}[r.IntN(6)]
 		return "List " + name, fmt.Sprint(v.List(name)), fmt.Sprint(m.list(name, name != "" && name != "a"))
@@ -251,6 +349,18 @@ func step(r *rand.Rand, v *venue.Venue, m *model) (what, got, want string) {
 		report, e := v.Replace(id, price, quantity)
 		wantReport, wantE := m.replace(id, price, quantity)
 		return fmt.Sprint("Replace ", id, price, quantity), fmt.Sprint(report, e), fmt.Sprint(wantReport, wantE)
+	case 4, 5, 6:
+		number, again := anyTrade(r, m), r.IntN(4) > 0
+		return fmt.Sprint("Bust ", number, again), fmt.Sprint(v.Bust(number, again)), fmt.Sprint(m.bust(number, again))
+	case 7:
+		number := anyTrade(r, m)
+		return fmt.Sprint("Correct ", number, price), fmt.Sprint(v.Correct(number, price)), fmt.Sprint(m.correct(number, price))
+	case 8:
+		if r.IntN(4) == 0 {
+			v.Close()
+			m.endDay()
+			return "Close", "", ""
+		}
 	}
 	o := anyOrder(r)
 	report, e := v.Enter(o)
@@ -289,7 +399,39 @@ func compare(t *testing.T, v *venue.Venue, m *model) {
 	}
 }
 
-// leanedOn holds what callers lean on of the orders and the book of a symbol.
+// compareTold holds the trades and the tape of both against each other.
+func compareTold(t *testing.T, r *rand.Rand, v *venue.Venue, m *model) {
+	t.Helper()
+	if got := v.Trades(); !slices.Equal(got, m.held()) {
+		t.Fatalf("Trades() = %+v, want %+v", got, m.held())
+	}
+	from := r.IntN(len(m.tape)+4) - 1
+	want := slices.Clone(m.tape)
+	want = slices.DeleteFunc(want, func(x api.Record) bool { return x.Number < from })
+	if got := v.Tape(from); !slices.Equal(got, want) {
+		t.Fatalf("Tape(%d) = %+v, want %+v", from, got, want)
+	}
+}
+
+// folded gives the trades that the tape tells of.
+func folded(t *testing.T, tape []api.Record) []api.Trade {
+	t.Helper()
+	trades := map[int]api.Trade{}
+	for _, x := range tape {
+		if _, there := trades[x.Trade.Number]; there != (x.Kind == api.Bust || x.Kind == api.Correct) {
+			t.Fatalf("the record %+v does not go with what was told ahead of it", x)
+		}
+		switch x.Kind {
+		case api.Print, api.Correct:
+			trades[x.Trade.Number] = x.Trade
+		case api.Bust:
+			delete(trades, x.Trade.Number)
+		}
+	}
+	return slices.SortedFunc(maps.Values(trades), func(a, b api.Trade) int { return a.Number - b.Number })
+}
+
+// leanedOn holds what callers lean on of the orders, the trades and the book of a symbol.
 func leanedOn(t *testing.T, v *venue.Venue, symbol string) {
 	t.Helper()
 	filled := [2]int{}
@@ -302,8 +444,17 @@ func leanedOn(t *testing.T, v *venue.Venue, symbol string) {
 			filled[s.Order.Side] += s.Filled
 		}
 	}
-	if filled[api.Buy] != filled[api.Sell] {
-		t.Fatalf("%s: bought %d, sold %d", symbol, filled[api.Buy], filled[api.Sell])
+	traded := 0
+	for _, x := range v.Trades() {
+		if x.Symbol == symbol {
+			traded += x.Quantity
+		}
+	}
+	if filled[api.Buy] != traded || filled[api.Sell] != traded {
+		t.Fatalf("%s: bought %d, sold %d, in trades %d", symbol, filled[api.Buy], filled[api.Sell], traded)
+	}
+	if got, want := folded(t, v.Tape(0)), v.Trades(); !slices.Equal(got, want) {
+		t.Fatalf("the tape folded is %+v, the trades are %+v", got, want)
 	}
 	buys, _ := v.Book(symbol, api.Buy)
 	sells, _ := v.Book(symbol, api.Sell)
@@ -323,9 +474,9 @@ func TestAnswersAsThePlainModel(t *testing.T) {
 				t.Fatalf("seed %d: %s: %s, want %s", seed, what, got, want)
 			}
 			compare(t, v, m)
-		}
-		for _, name := range m.names {
-			leanedOn(t, v, name)
+			compareTold(t, r, v, m)
+			leanedOn(t, v, "A")
+			leanedOn(t, v, "Α")
 		}
 	}
 }

@@ -2,6 +2,7 @@
 package venue
 
 import (
+	"slices"
 	"strings"
 
 	"venue/api"
@@ -12,12 +13,14 @@ import (
 type Venue struct {
 	books  map[string]*book.Book // by symbol
 	orders map[int]*book.Order   // by id; also those of which nothing is open
-	trades int                   // the number of the last trade
+	trades []*trade              // by number, from 1 on; also those that hold no longer
+	tape   []api.Record          // by number, from 1 on
+	day    int
 }
 
 // New makes a venue without anything.
 func New() *Venue {
-	return &Venue{books: map[string]*book.Book{}, orders: map[int]*book.Order{}}
+	return &Venue{books: map[string]*book.Book{}, orders: map[int]*book.Order{}, day: 1}
 }
 
 // Restore makes a venue of a journal (P12).
@@ -90,13 +93,43 @@ func (v *Venue) Replace(id int, price int, quantity int) (api.Report, api.Errno)
 }
 
 // Bust lets a trade hold no longer (P7).
-func (v *Venue) Bust(trade int, again bool) api.Errno { return api.OK }
+func (v *Venue) Bust(trade int, again bool) api.Errno {
+	t, e := v.toPutRight(trade)
+	if e != api.OK {
+		return e
+	}
+	t.holds = false
+	v.takeBack(v.orders[t.Buy], t.Quantity, again)
+	v.takeBack(v.orders[t.Sell], t.Quantity, again)
+	v.tell(api.Bust, t.Trade)
+	return api.OK
+}
 
 // Correct gives a trade another price (P8).
-func (v *Venue) Correct(trade int, price int) api.Errno { return api.OK }
+func (v *Venue) Correct(trade int, price int) api.Errno {
+	t, e := v.toPutRight(trade)
+	switch {
+	case e != api.OK:
+		return e
+	case !isNumber(price):
+		return api.ErrRange
+	}
+	t.Price = price
+	v.tell(api.Correct, t.Trade)
+	return api.OK
+}
 
 // Close ends the day (P9).
-func (v *Venue) Close() {}
+func (v *Venue) Close() {
+	for _, o := range v.orders { // in whatever order they leave, the others keep their ranks
+		if o.Order.Kind == api.Day && o.Open > 0 {
+			v.books[o.Order.Symbol].Leave(o)
+			o.ExpireOpen()
+		}
+	}
+	v.tell(api.Close, api.Trade{Day: v.day})
+	v.day++
+}
 
 // Undo undoes the last act (P10).
 func (v *Venue) Undo() api.Errno { return api.OK }
@@ -125,10 +158,28 @@ func (v *Venue) Book(symbol string, side int) ([]api.Level, api.Errno) {
 }
 
 // Trades tells the trades that hold (P11).
-func (v *Venue) Trades() []api.Trade { return nil }
+func (v *Venue) Trades() []api.Trade {
+	var all []api.Trade
+	for _, t := range v.trades {
+		if t.holds {
+			all = append(all, handedOut(t.Trade))
+		}
+	}
+	return all
+}
 
 // Tape tells the records from a number on (P11).
-func (v *Venue) Tape(from int) []api.Record { return nil }
+func (v *Venue) Tape(from int) []api.Record {
+	from = max(from, 1)
+	if from > len(v.tape) {
+		return nil
+	}
+	records := slices.Clone(v.tape[from-1:])
+	for i, r := range records {
+		records[i].Trade = handedOut(r.Trade)
+	}
+	return records
+}
 
 // Journal tells all acts (P12).
 func (v *Venue) Journal() string { return "" }
