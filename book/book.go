@@ -18,17 +18,30 @@ type Book struct {
 // New makes a book without orders.
 func New(symbol string) *Book { return &Book{Symbol: symbol} }
 
-// Rest puts an order into the book, behind all others of its price.
-func (b *Book) Rest(o *Order) {
+// Rest puts an order into the book, behind all others of its price. It gives a function that puts that back,
+// for when the book and the order are again as they were then; so does Leave.
+func (b *Book) Rest(o *Order) (back func()) {
+	before := o.place
 	b.places++
 	o.place = b.places
-	heap.Push(&b.sides[o.Order.Side], o)
+	b.push(o)
+	return func() {
+		b.remove(o)
+		o.place = before
+		b.places--
+	}
 }
 
-// Leave takes an order out of the book. Its price must still be the one that it rested at.
-func (b *Book) Leave(o *Order) {
-	heap.Remove(&b.sides[o.Order.Side], o.index)
+// Leave takes an order out of the book. Its price must still be the one that it rested at. Put back, it stands
+// where it stood, as its place is still its own.
+func (b *Book) Leave(o *Order) (back func()) {
+	b.remove(o)
+	return func() { b.push(o) }
 }
+
+func (b *Book) push(o *Order) { heap.Push(&b.sides[o.Order.Side], o) }
+
+func (b *Book) remove(o *Order) { heap.Remove(&b.sides[o.Order.Side], o.index) }
 
 // FirstGood gives the first order by rank that is good for one that comes; nil, if none is.
 func (b *Book) FirstGood(comes api.Order) *Order {

@@ -95,25 +95,67 @@ func TestSupply(t *testing.T) {
 	}
 }
 
-// Whatever becomes of an order's quantity, the parts are what was entered.
+// Whatever becomes of an order's quantity, the parts are what was entered; put back, last first, all is as it was.
 func TestOrderCounts(t *testing.T) {
 	o := NewOrder(api.Order{ID: 1, Price: 5, Quantity: 20})
+	var was []api.Status
+	var backs []func()
 	for i, c := range []struct {
-		act                              func()
-		open, filled, cancelled, expired int
+		act   func() func()
+		price int
+		want  api.Status
 	}{
-		{func() {}, 20, 0, 0, 0},
-		{func() { o.Fill(9) }, 11, 9, 0, 0},
-		{o.CancelOpen, 0, 9, 11, 0},
-		{func() { o.OpenFilled(4) }, 4, 5, 11, 0},
-		{func() { o.CancelFilled(2) }, 4, 3, 13, 0},
-		{o.ExpireOpen, 0, 3, 13, 4},
-		{func() { o.OpenFilled(3) }, 3, 0, 13, 4},
-		{o.ExpireOpen, 0, 0, 13, 7},
+		{func() func() { return o.Fill(9) }, 5, api.Status{Entered: 20, Open: 11, Filled: 9}},
+		{o.CancelOpen, 5, api.Status{Entered: 20, Filled: 9, Cancelled: 11}},
+		{func() func() { return o.OpenFilled(4) }, 5, api.Status{Entered: 20, Open: 4, Filled: 5, Cancelled: 11}},
+		{func() func() { return o.CancelFilled(2) }, 5, api.Status{Entered: 20, Open: 4, Filled: 3, Cancelled: 13}},
+		{o.ExpireOpen, 5, api.Status{Entered: 20, Filled: 3, Cancelled: 13, Expired: 4}},
+		{func() func() { return o.OpenFilled(3) }, 5, api.Status{Entered: 20, Open: 3, Cancelled: 13, Expired: 4}},
+		{func() func() { return o.Amend(6, 10) }, 6, api.Status{Entered: 27, Open: 10, Cancelled: 13, Expired: 4}},
+		{func() func() { return o.Amend(7, 1) }, 7, api.Status{Entered: 18, Open: 1, Cancelled: 13, Expired: 4}},
+		{o.ExpireOpen, 7, api.Status{Entered: 18, Cancelled: 13, Expired: 5}},
 	} {
-		c.act()
-		if want := (api.Status{Order: o.Order, Entered: 20, Open: c.open, Filled: c.filled, Cancelled: c.cancelled, Expired: c.expired}); o.Status != want {
-			t.Errorf("behind act %d: %+v, want %+v", i, o.Status, want)
+		was = append(was, o.Status)
+		backs = append(backs, c.act())
+		c.want.Order = api.Order{ID: 1, Price: c.price, Quantity: 20}
+		if o.Status != c.want {
+			t.Errorf("behind act %d: %+v, want %+v", i, o.Status, c.want)
+		}
+	}
+	for i, back := range slices.Backward(backs) {
+		if back(); o.Status != was[i] {
+			t.Errorf("act %d put back: %+v, want %+v", i, o.Status, was[i])
+		}
+	}
+}
+
+// Leaving from anywhere, and coming back, put back: each stands where it stood, and the next behind all of them.
+func TestPutBack(t *testing.T) {
+	const orders = 12
+	for gone := range orders {
+		b := New("A")
+		var all []*Order
+		for id := range orders {
+			all = append(all, resting(b, id, api.Buy, 100+id*5%4, 1))
+		}
+		want := emptied(b, api.Sell)
+		for _, o := range all {
+			b.push(o)
+		}
+		left := b.Leave(all[gone])
+		raised := all[gone].Amend(102, 1)
+		rested := b.Rest(all[gone])
+		rested()
+		raised()
+		left()
+		resting(b, 99, api.Buy, all[gone].Order.Price, 1)
+		last := slices.IndexFunc(want, func(id int) bool { return all[id].Order.Price < all[gone].Order.Price })
+		if last < 0 {
+			last = len(want)
+		}
+		want = slices.Insert(want, last, 99)
+		if got := emptied(b, api.Sell); !slices.Equal(got, want) {
+			t.Errorf("order %d went, came back, and was put back: %v, want %v", gone, got, want)
 		}
 	}
 }

@@ -14,34 +14,59 @@ func NewOrder(asked api.Order) *Order {
 	return &Order{Status: api.Status{Order: asked, Entered: asked.Quantity, Open: asked.Quantity}}
 }
 
-// Fill lets some of what is open be filled.
-func (o *Order) Fill(quantity int) {
+// asNow gives a function that lets the order's price and counts be as they are now.
+func (o *Order) asNow() func() {
+	now := o.Status
+	return func() { o.Status = now }
+}
+
+// Fill lets some of what is open be filled. Like all that change an order it gives a function that puts that back.
+func (o *Order) Fill(quantity int) (back func()) {
+	back = o.asNow()
 	o.Open -= quantity
 	o.Filled += quantity
+	return back
 }
 
 // CancelOpen cancels all that is open.
-func (o *Order) CancelOpen() {
+func (o *Order) CancelOpen() (back func()) {
+	back = o.asNow()
 	o.Cancelled += o.Open
 	o.Open = 0
+	return back
 }
 
 // ExpireOpen lets all that is open be expired.
-func (o *Order) ExpireOpen() {
+func (o *Order) ExpireOpen() (back func()) {
+	back = o.asNow()
 	o.Expired += o.Open
 	o.Open = 0
+	return back
 }
 
 // OpenFilled lets some of what is filled be open again.
-func (o *Order) OpenFilled(quantity int) {
+func (o *Order) OpenFilled(quantity int) (back func()) {
+	back = o.asNow()
 	o.Filled -= quantity
 	o.Open += quantity
+	return back
 }
 
 // CancelFilled lets some of what is filled be cancelled.
-func (o *Order) CancelFilled(quantity int) {
+func (o *Order) CancelFilled(quantity int) (back func()) {
+	back = o.asNow()
 	o.Filled -= quantity
 	o.Cancelled += quantity
+	return back
+}
+
+// Amend lets another quantity be open, at a price; what was entered is changed by as much.
+func (o *Order) Amend(price, quantity int) (back func()) {
+	back = o.asNow()
+	o.Entered += quantity - o.Open
+	o.Open = quantity
+	o.Order.Price = price
+	return back
 }
 
 // Rests tells whether what is not traded of the order waits in the book.

@@ -82,6 +82,11 @@ func side(t *testing.T, v *venue.Venue, side int, want ...api.Level) {
 
 // picture tells all that can be asked of a venue with these symbols and ids.
 func picture(v *venue.Venue, symbols []string, ids []int) string {
+	return standing(v, symbols, ids) + fmt.Sprintf("%+v\n", v.Tape(0))
+}
+
+// standing tells what an Undo puts back: the books, the orders, the trades.
+func standing(v *venue.Venue, symbols []string, ids []int) string {
 	all := ""
 	for _, s := range symbols {
 		for _, side := range []int{api.Buy, api.Sell} {
@@ -93,7 +98,7 @@ func picture(v *venue.Venue, symbols []string, ids []int) string {
 		status, e := v.Status(id)
 		all += fmt.Sprintf("%+v %d\n", status, e)
 	}
-	return all + fmt.Sprintf("%+v\n%+v\n", v.Trades(), v.Tape(0))
+	return all + fmt.Sprintf("%+v\n", v.Trades())
 }
 
 // of makes a trade of the symbol A.

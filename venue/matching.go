@@ -10,9 +10,9 @@ func (v *Venue) come(b *book.Book, o *book.Order) api.Report {
 	before, trades := o.Status, len(v.trades)
 	v.match(b, o)
 	if o.Open > 0 && o.Rests() {
-		b.Rest(o)
+		v.note(b.Rest(o))
 	} else {
-		o.CancelOpen()
+		v.note(o.CancelOpen())
 	}
 	r := api.Report{Filled: o.Filled - before.Filled, Rests: o.Open, Cancelled: o.Cancelled - before.Cancelled}
 	if len(v.trades) > trades {
@@ -29,8 +29,7 @@ func (v *Venue) match(b *book.Book, o *book.Order) {
 			return
 		}
 		if waits.Order.Owner == o.Order.Owner {
-			b.Leave(waits)
-			waits.CancelOpen()
+			v.note(b.Leave(waits), waits.CancelOpen())
 			continue
 		}
 		v.trade(b, o, waits)
@@ -40,10 +39,9 @@ func (v *Venue) match(b *book.Book, o *book.Order) {
 // trade lets an order that comes and one that waits trade as much as both have, at the price of the one that waits.
 func (v *Venue) trade(b *book.Book, comes, waits *book.Order) {
 	quantity := min(comes.Open, waits.Open)
-	comes.Fill(quantity)
-	waits.Fill(quantity)
+	v.note(comes.Fill(quantity), waits.Fill(quantity))
 	if waits.Open == 0 {
-		b.Leave(waits)
+		v.note(b.Leave(waits))
 	}
 	buys, sells := comes, waits
 	if comes.Order.Side == api.Sell {

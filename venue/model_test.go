@@ -12,19 +12,68 @@ import (
 )
 
 // model: the words of the document done as plainly as can be, without a heap: the open orders of a
-// symbol lie in one list in the order in which they came there, and all of it is gone through each time.
+// symbol lie in one list in the order in which they came there, and all of it is gone through each time; of all
+// but the tape a copy is made ahead of each act, and taken again when the act is undone.
 type model struct {
+	state
+	tape []api.Record
+	past []past
+}
+
+type state struct {
 	names  []string
 	open   map[string][]*api.Status
 	orders map[int]*api.Status
 	trades []api.Trade // all that ever were
 	busted []int
-	tape   []api.Record
 	day    int
 }
 
+// past: what there was ahead of an act, and what the act told.
+type past struct {
+	was  state
+	told []api.Record
+}
+
 func newModel() *model {
-	return &model{open: map[string][]*api.Status{}, orders: map[int]*api.Status{}, day: 1}
+	return &model{state: state{open: map[string][]*api.Status{}, orders: map[int]*api.Status{}, day: 1}}
+}
+
+func (s state) copied() state {
+	c := state{slices.Clone(s.names), map[string][]*api.Status{}, map[int]*api.Status{}, slices.Clone(s.trades), slices.Clone(s.busted), s.day}
+	for id, o := range s.orders {
+		own := *o
+		c.orders[id] = &own
+	}
+	for name, open := range s.open {
+		for _, o := range open {
+			c.open[name] = append(c.open[name], c.orders[o.Order.ID])
+		}
+	}
+	return c
+}
+
+// begin is called by each act as soon as it is known that there is no error.
+func (m *model) begin() { m.past = append(m.past, past{was: m.copied()}) }
+
+func (m *model) undo() api.Errno {
+	if len(m.past) == 0 {
+		return api.ErrUndo
+	}
+	last := m.past[len(m.past)-1]
+	m.past = m.past[:len(m.past)-1]
+	m.state = last.was
+	for _, x := range slices.Backward(last.told) {
+		switch x.Kind {
+		case api.Print:
+			m.add(api.Bust, x.Trade)
+		case api.Bust:
+			m.add(api.Print, x.Trade)
+		case api.Correct:
+			m.add(api.Correct, m.trades[x.Trade.Number-1])
+		}
+	}
+	return api.OK
 }
 
 func (m *model) list(name string, isName bool) api.Errno {
@@ -37,6 +86,7 @@ func (m *model) list(name string, isName bool) api.Errno {
 	if len(m.names) == api.MaxSymbols {
 		return api.ErrLimit
 	}
+	m.begin()
 	m.names = append(m.names, name)
 	return api.OK
 }
@@ -101,6 +151,7 @@ func (m *model) enter(o api.Order) (api.Report, api.Errno) {
 			return api.Report{}, c.e
 		}
 	}
+	m.begin()
 	s := &api.Status{Order: o, Entered: o.Quantity}
 	m.orders[o.ID] = s
 	return m.come(s, o.Quantity), api.OK
@@ -163,6 +214,7 @@ func (m *model) cancel(id int) api.Errno {
 	if s.Open == 0 {
 		return api.ErrClosed
 	}
+	m.begin()
 	m.close(s)
 	return api.OK
 }
@@ -178,6 +230,7 @@ func (m *model) replace(id, price, quantity int) (api.Report, api.Errno) {
 	if outside(price, 1, api.MaxNumber) || outside(quantity, 1, api.MaxNumber) {
 		return api.Report{}, api.ErrRange
 	}
+	m.begin()
 	was := s.Open
 	s.Entered += quantity - was
 	if price == s.Order.Price && quantity <= was {
@@ -203,7 +256,14 @@ func (m *model) print(comes, waits *api.Status, quantity int) {
 	m.tell(api.Print, x)
 }
 
+// tell adds a record of the act that is being done.
 func (m *model) tell(kind int, x api.Trade) {
+	m.add(kind, x)
+	last := &m.past[len(m.past)-1]
+	last.told = append(last.told, m.tape[len(m.tape)-1])
+}
+
+func (m *model) add(kind int, x api.Trade) {
 	m.tape = append(m.tape, api.Record{Number: len(m.tape) + 1, Kind: kind, Trade: x})
 }
 
@@ -224,6 +284,7 @@ func (m *model) bust(number int, again bool) api.Errno {
 	if e := m.mayPutRight(number); e != api.OK {
 		return e
 	}
+	m.begin()
 	x := m.trades[number-1]
 	m.busted = append(m.busted, number)
 	for _, id := range []int{x.Buy, x.Sell} {
@@ -249,12 +310,14 @@ func (m *model) correct(number, price int) api.Errno {
 	if outside(price, 1, api.MaxNumber) {
 		return api.ErrRange
 	}
+	m.begin()
 	m.trades[number-1].Price = price
 	m.tell(api.Correct, m.trades[number-1])
 	return api.OK
 }
 
 func (m *model) endDay() {
+	m.begin()
 	for _, s := range m.orders {
 		if s.Order.Kind == api.Day {
 			m.remove(s)
@@ -336,7 +399,7 @@ func anyTrade(r *rand.Rand, m *model) int {
 // step does one act of any kind with both, and tells what both answered.
 func step(r *rand.Rand, v *venue.Venue, m *model) (what, got, want string) {
 	id, price, quantity := anyID(r, m), anyNumber(r, 95, 105), anyNumber(r, 1, 20)
-	switch r.IntN(14) {
+	switch r.IntN(17) {
 	case 0:
 		name := []string{"A", "Α", "B", "", "a", "D1"}[r.IntN(6)]
 		return "List " + name, fmt.Sprint(v.List(name)), fmt.Sprint(m.list(name, name != "" && name != "a"))
@@ -361,6 +424,8 @@ func step(r *rand.Rand, v *venue.Venue, m *model) (what, got, want string) {
 			m.endDay()
 			return "Close", "", ""
 		}
+	case 9, 10:
+		return "Undo", fmt.Sprint(v.Undo()), fmt.Sprint(m.undo())
 	}
 	o := anyOrder(r)
 	report, e := v.Enter(o)
@@ -380,10 +445,14 @@ func askedIDs() []int {
 // compare holds all that can be asked of both against each other.
 func compare(t *testing.T, v *venue.Venue, m *model) {
 	t.Helper()
-	for _, name := range m.names {
+	for _, name := range []string{"A", "Α", "B", "D1", "C"} {
+		wantE := api.ErrUnknown
+		if slices.Contains(m.names, name) {
+			wantE = api.OK
+		}
 		for _, side := range []int{api.Buy, api.Sell} {
-			if got, e := v.Book(name, side); !slices.Equal(got, m.book(name, side)) || e != api.OK {
-				t.Fatalf("Book(%s, %d) = %v, %d, want %v", name, side, got, e, m.book(name, side))
+			if got, e := v.Book(name, side); !slices.Equal(got, m.book(name, side)) || e != wantE {
+				t.Fatalf("Book(%s, %d) = %v, %d, want %v, %d", name, side, got, e, m.book(name, side), wantE)
 			}
 		}
 	}
@@ -463,7 +532,28 @@ func leanedOn(t *testing.T, v *venue.Venue, symbol string) {
 	}
 }
 
-// Long rows of acts, right and wrong ones: the venue answers each as the plain model does.
+// alike holds all that both tell against each other, and what callers lean on.
+func alike(t *testing.T, r *rand.Rand, v *venue.Venue, m *model) {
+	t.Helper()
+	compare(t, v, m)
+	compareTold(t, r, v, m)
+	leanedOn(t, v, "A")
+	leanedOn(t, v, "Α")
+}
+
+// undone undoes some acts with both.
+func undone(t *testing.T, r *rand.Rand, v *venue.Venue, m *model, acts int) {
+	t.Helper()
+	for range acts {
+		if got, want := v.Undo(), m.undo(); got != want {
+			t.Fatalf("Undo() = %d, want %d", got, want)
+		}
+		alike(t, r, v, m)
+	}
+}
+
+// Long rows of acts, right and wrong ones, with single ones and many undone: the venue answers each as the plain
+// model does, back to the beginning.
 func TestAnswersAsThePlainModel(t *testing.T) {
 	for seed := range uint64(40) {
 		r := rand.New(rand.NewPCG(seed, 1))
@@ -473,10 +563,11 @@ func TestAnswersAsThePlainModel(t *testing.T) {
 			if got != want {
 				t.Fatalf("seed %d: %s: %s, want %s", seed, what, got, want)
 			}
-			compare(t, v, m)
-			compareTold(t, r, v, m)
-			leanedOn(t, v, "A")
-			leanedOn(t, v, "Α")
+			alike(t, r, v, m)
+			if r.IntN(100) == 0 {
+				undone(t, r, v, m, r.IntN(60))
+			}
 		}
+		undone(t, r, v, m, len(m.past)+2)
 	}
 }

@@ -1,6 +1,7 @@
 package venue
 
 import (
+	"slices"
 	"strings"
 
 	"venue/api"
@@ -18,9 +19,19 @@ func (v *Venue) addTrade(t api.Trade) {
 	t.Number, t.Day = len(v.trades)+1, v.day
 	v.trades = append(v.trades, &trade{Trade: t, holds: true})
 	v.tell(api.Print, t)
+	v.note(func() {
+		v.trades = slices.Delete(v.trades, t.Number-1, t.Number)
+		v.tell(api.Bust, t)
+	})
 }
 
-// tell adds a record to the tape.
+// setPrice gives a trade a price, and tells of it.
+func (v *Venue) setPrice(t *trade, price int) {
+	t.Price = price
+	v.tell(api.Correct, t.Trade)
+}
+
+// tell adds a record to the tape. That is never put back: where an act is undone, it is answered by another record.
 func (v *Venue) tell(kind int, t api.Trade) {
 	v.tape = append(v.tape, api.Record{Number: len(v.tape) + 1, Kind: kind, Trade: t})
 }
@@ -44,14 +55,13 @@ func (v *Venue) toPutRight(number int) (*trade, api.Errno) {
 func (v *Venue) takeBack(o *book.Order, quantity int, again bool) {
 	b := v.books[o.Order.Symbol]
 	if !again || !o.Rests() || b.FirstGood(o.Order) != nil {
-		o.CancelFilled(quantity)
+		v.note(o.CancelFilled(quantity))
 		return
 	}
 	if o.Open > 0 {
-		b.Leave(o) // what was open already loses its place too
+		v.note(b.Leave(o)) // what was open already loses its place too
 	}
-	o.OpenFilled(quantity)
-	b.Rest(o)
+	v.note(o.OpenFilled(quantity), b.Rest(o))
 }
 
 // handedOut gives a trade as it may leave the venue: it shares no memory with the one that is kept.

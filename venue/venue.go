@@ -16,6 +16,7 @@ type Venue struct {
 	trades []*trade              // by number, from 1 on; also those that hold no longer
 	tape   []api.Record          // by number, from 1 on
 	day    int
+	acts   []act // those that are not undone
 }
 
 // New makes a venue without anything.
@@ -37,7 +38,9 @@ func (v *Venue) List(symbol string) api.Errno {
 		return api.ErrLimit
 	}
 	own := strings.Clone(symbol) // the caller's text may be a piece of a long one, and is not kept
+	v.begin()
 	v.books[own] = book.New(own)
+	v.note(func() { delete(v.books, own) })
 	return api.OK
 }
 
@@ -49,7 +52,9 @@ func (v *Venue) Enter(o api.Order) (api.Report, api.Errno) {
 	b := v.books[o.Symbol]
 	o.Symbol = b.Symbol // the caller's text is not kept
 	order := book.NewOrder(o)
+	v.begin()
 	v.orders[o.ID] = order
+	v.note(func() { delete(v.orders, o.ID) })
 	return v.come(b, order), api.OK
 }
 
@@ -62,8 +67,8 @@ func (v *Venue) Cancel(id int) api.Errno {
 	case o.Open == 0:
 		return api.ErrClosed
 	}
-	v.books[o.Order.Symbol].Leave(o)
-	o.CancelOpen()
+	v.begin()
+	v.note(v.books[o.Order.Symbol].Leave(o), o.CancelOpen())
 	return api.OK
 }
 
@@ -78,17 +83,13 @@ func (v *Venue) Replace(id int, price int, quantity int) (api.Report, api.Errno)
 	case !isNumber(price) || !isNumber(quantity):
 		return api.Report{}, api.ErrRange
 	}
-	b := v.books[o.Order.Symbol]
-	keepsPlace := price == o.Order.Price && quantity <= o.Open
-	if !keepsPlace {
-		b.Leave(o)
-	}
-	o.Entered += quantity - o.Open
-	o.Open = quantity
-	if keepsPlace {
+	v.begin()
+	if price == o.Order.Price && quantity <= o.Open {
+		v.note(o.Amend(price, quantity)) // it keeps its place
 		return api.Report{Rests: quantity}, api.OK
 	}
-	o.Order.Price = price
+	b := v.books[o.Order.Symbol]
+	v.note(b.Leave(o), o.Amend(price, quantity))
 	return v.come(b, o), api.OK
 }
 
@@ -98,10 +99,15 @@ func (v *Venue) Bust(trade int, again bool) api.Errno {
 	if e != api.OK {
 		return e
 	}
+	v.begin()
 	t.holds = false
+	v.tell(api.Bust, t.Trade)
+	v.note(func() {
+		t.holds = true
+		v.tell(api.Print, t.Trade)
+	})
 	v.takeBack(v.orders[t.Buy], t.Quantity, again)
 	v.takeBack(v.orders[t.Sell], t.Quantity, again)
-	v.tell(api.Bust, t.Trade)
 	return api.OK
 }
 
@@ -114,25 +120,36 @@ func (v *Venue) Correct(trade int, price int) api.Errno {
 	case !isNumber(price):
 		return api.ErrRange
 	}
-	t.Price = price
-	v.tell(api.Correct, t.Trade)
+	v.begin()
+	before := t.Price
+	v.setPrice(t, price)
+	v.note(func() { v.setPrice(t, before) })
 	return api.OK
 }
 
 // Close ends the day (P9).
 func (v *Venue) Close() {
-	for _, o := range v.orders { // in whatever order they leave, the others keep their ranks
+	v.begin()
+	for _, o := range v.orders { // in whatever order they leave, and are put back, all have their ranks
 		if o.Order.Kind == api.Day && o.Open > 0 {
-			v.books[o.Order.Symbol].Leave(o)
-			o.ExpireOpen()
+			v.note(v.books[o.Order.Symbol].Leave(o), o.ExpireOpen())
 		}
 	}
 	v.tell(api.Close, api.Trade{Day: v.day})
 	v.day++
+	v.note(func() { v.day-- })
 }
 
 // Undo undoes the last act (P10).
-func (v *Venue) Undo() api.Errno { return api.OK }
+func (v *Venue) Undo() api.Errno {
+	last := len(v.acts) - 1
+	if last < 0 {
+		return api.ErrUndo
+	}
+	v.acts[last].putBack()
+	v.acts = slices.Delete(v.acts, last, last+1)
+	return api.OK
+}
 
 // Status tells what became of an order (P11).
 func (v *Venue) Status(id int) (api.Status, api.Errno) {
