@@ -3,6 +3,7 @@ package venue_test
 import (
 	"fmt"
 	"slices"
+	"strings"
 	"testing"
 
 	"venue/api"
@@ -14,13 +15,14 @@ const tooLarge = api.MaxNumber + 1
 // noNumbers: what is no price, no quantity, no id.
 var noNumbers = []int{0, -1, tooLarge, 1 << 62, -1 << 63, 1<<63 - 1, 1<<32 + 1}
 
-// opened makes a venue with these symbols.
+// opened makes a venue with these symbols. Whatever a test does with it, at its end one that is restored must be alike.
 func opened(t *testing.T, symbols ...string) *venue.Venue {
 	t.Helper()
 	v := venue.New()
 	for _, s := range symbols {
 		wantErrno(t, "List "+s, v.List(s), api.OK)
 	}
+	t.Cleanup(func() { sameBackToTheBeginning(t, v, again(t, v)) })
 	return v
 }
 
@@ -82,7 +84,7 @@ func side(t *testing.T, v *venue.Venue, side int, want ...api.Level) {
 
 // picture tells all that can be asked of a venue with these symbols and ids.
 func picture(v *venue.Venue, symbols []string, ids []int) string {
-	return standing(v, symbols, ids) + fmt.Sprintf("%+v\n", v.Tape(0))
+	return standing(v, symbols, ids) + fmt.Sprintf("%+v\n", v.Tape(0)) + v.Journal()
 }
 
 // standing tells what an Undo puts back: the books, the orders, the trades.
@@ -130,4 +132,56 @@ func tape(t *testing.T, v *venue.Venue, want ...told) {
 	if got := v.Tape(1); !slices.Equal(got, all) {
 		t.Errorf("Tape(1) =\n%+v, want\n%+v", got, all)
 	}
+}
+
+// restored makes a venue of a journal that must be right.
+func restored(t *testing.T, journal string) *venue.Venue {
+	t.Helper()
+	v, e, line := venue.Restore(journal)
+	if v == nil || e != api.OK || line != 0 {
+		t.Fatalf("Restore(%.2000q) gives a venue: %t; %d, %d", journal, v != nil, e, line)
+	}
+	return v
+}
+
+// again gives a venue that is made of the journal of another, and must answer everything as that does.
+func again(t *testing.T, v *venue.Venue) *venue.Venue {
+	t.Helper()
+	w := restored(t, v.Journal())
+	same(t, v, w)
+	return w
+}
+
+// same holds all that can be asked of two venues with the same acts against each other.
+func same(t *testing.T, v, w *venue.Venue) {
+	t.Helper()
+	symbols, ids := mentioned(v.Journal())
+	if got, want := picture(w, symbols, ids), picture(v, symbols, ids); got != want {
+		t.Errorf("of two that must be alike one tells\n%sthe other\n%s", want, got)
+	}
+}
+
+// sameBackToTheBeginning undoes all acts of two venues that must be alike.
+func sameBackToTheBeginning(t *testing.T, v, w *venue.Venue) {
+	t.Helper()
+	for e := api.OK; e == api.OK; {
+		e = v.Undo()
+		wantErrno(t, "Undo", w.Undo(), e)
+	}
+	same(t, v, w)
+}
+
+// mentioned gives the symbols and the ids that a journal has, and some that it has not.
+func mentioned(journal string) (symbols []string, ids []int) {
+	symbols, ids = []string{"NONE"}, []int{0, api.MaxNumber, tooLarge}
+	for line := range strings.Lines(journal) {
+		name, id := "", 0
+		if n, _ := fmt.Sscanf(line, "list %s", &name); n == 1 {
+			symbols = append(symbols, name)
+		}
+		if n, _ := fmt.Sscanf(line, "enter %d", &id); n == 1 {
+			ids = append(ids, id)
+		}
+	}
+	return symbols, ids
 }

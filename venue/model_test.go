@@ -13,11 +13,12 @@ import (
 
 // model: the words of the document done as plainly as can be, without a heap: the open orders of a
 // symbol lie in one list in the order in which they came there, and all of it is gone through each time; of all
-// but the tape a copy is made ahead of each act, and taken again when the act is undone.
+// but the tape and the journal a copy is made ahead of each act, and taken again when the act is undone.
 type model struct {
 	state
-	tape []api.Record
-	past []past
+	tape    []api.Record
+	journal string
+	past    []past
 }
 
 type state struct {
@@ -54,12 +55,18 @@ func (s state) copied() state {
 }
 
 // begin is called by each act as soon as it is known that there is no error.
-func (m *model) begin() { m.past = append(m.past, past{was: m.copied()}) }
+func (m *model) begin(words ...any) {
+	m.past = append(m.past, past{was: m.copied()})
+	m.write(words...)
+}
+
+func (m *model) write(words ...any) { m.journal += fmt.Sprintln(words...) }
 
 func (m *model) undo() api.Errno {
 	if len(m.past) == 0 {
 		return api.ErrUndo
 	}
+	m.write("undo")
 	last := m.past[len(m.past)-1]
 	m.past = m.past[:len(m.past)-1]
 	m.state = last.was
@@ -86,7 +93,7 @@ func (m *model) list(name string, isName bool) api.Errno {
 	if len(m.names) == api.MaxSymbols {
 		return api.ErrLimit
 	}
-	m.begin()
+	m.begin("list", name)
 	m.names = append(m.names, name)
 	return api.OK
 }
@@ -151,7 +158,7 @@ func (m *model) enter(o api.Order) (api.Report, api.Errno) {
 			return api.Report{}, c.e
 		}
 	}
-	m.begin()
+	m.begin("enter", o.ID, o.Owner, o.Symbol, o.Side, o.Kind, o.Price, o.Quantity)
 	s := &api.Status{Order: o, Entered: o.Quantity}
 	m.orders[o.ID] = s
 	return m.come(s, o.Quantity), api.OK
@@ -214,7 +221,7 @@ func (m *model) cancel(id int) api.Errno {
 	if s.Open == 0 {
 		return api.ErrClosed
 	}
-	m.begin()
+	m.begin("cancel", id)
 	m.close(s)
 	return api.OK
 }
@@ -230,7 +237,7 @@ func (m *model) replace(id, price, quantity int) (api.Report, api.Errno) {
 	if outside(price, 1, api.MaxNumber) || outside(quantity, 1, api.MaxNumber) {
 		return api.Report{}, api.ErrRange
 	}
-	m.begin()
+	m.begin("replace", id, price, quantity)
 	was := s.Open
 	s.Entered += quantity - was
 	if price == s.Order.Price && quantity <= was {
@@ -284,7 +291,7 @@ func (m *model) bust(number int, again bool) api.Errno {
 	if e := m.mayPutRight(number); e != api.OK {
 		return e
 	}
-	m.begin()
+	m.begin("bust", number, map[bool]int{false: 0, true: 1}[again])
 	x := m.trades[number-1]
 	m.busted = append(m.busted, number)
 	for _, id := range []int{x.Buy, x.Sell} {
@@ -310,14 +317,14 @@ func (m *model) correct(number, price int) api.Errno {
 	if outside(price, 1, api.MaxNumber) {
 		return api.ErrRange
 	}
-	m.begin()
+	m.begin("correct", number, price)
 	m.trades[number-1].Price = price
 	m.tell(api.Correct, m.trades[number-1])
 	return api.OK
 }
 
 func (m *model) endDay() {
-	m.begin()
+	m.begin("close")
 	for _, s := range m.orders {
 		if s.Order.Kind == api.Day {
 			m.remove(s)
@@ -468,7 +475,7 @@ func compare(t *testing.T, v *venue.Venue, m *model) {
 	}
 }
 
-// compareTold holds the trades and the tape of both against each other.
+// compareTold holds the trades, the tape and the journal of both against each other.
 func compareTold(t *testing.T, r *rand.Rand, v *venue.Venue, m *model) {
 	t.Helper()
 	if got := v.Trades(); !slices.Equal(got, m.held()) {
@@ -479,6 +486,9 @@ func compareTold(t *testing.T, r *rand.Rand, v *venue.Venue, m *model) {
 	want = slices.DeleteFunc(want, func(x api.Record) bool { return x.Number < from })
 	if got := v.Tape(from); !slices.Equal(got, want) {
 		t.Fatalf("Tape(%d) = %+v, want %+v", from, got, want)
+	}
+	if got := v.Journal(); got != m.journal {
+		t.Fatalf("Journal() = %s, want %s", got, m.journal)
 	}
 }
 
@@ -553,7 +563,8 @@ func undone(t *testing.T, r *rand.Rand, v *venue.Venue, m *model, acts int) {
 }
 
 // Long rows of acts, right and wrong ones, with single ones and many undone: the venue answers each as the plain
-// model does, back to the beginning.
+// model does, back to the beginning. Now and then the venue is left behind for one that is made of its journal, the
+// last line of which may be torn ahead of its end.
 func TestAnswersAsThePlainModel(t *testing.T) {
 	for seed := range uint64(40) {
 		r := rand.New(rand.NewPCG(seed, 1))
@@ -566,6 +577,11 @@ func TestAnswersAsThePlainModel(t *testing.T) {
 			alike(t, r, v, m)
 			if r.IntN(100) == 0 {
 				undone(t, r, v, m, r.IntN(60))
+			}
+			if r.IntN(40) == 0 {
+				torn := []string{"", "undo", "enter 1 1 A 1", "\x00 "}[r.IntN(4)]
+				v = restored(t, v.Journal()+torn)
+				alike(t, r, v, m)
 			}
 		}
 		undone(t, r, v, m, len(m.past)+2)

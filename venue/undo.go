@@ -6,8 +6,11 @@ import "slices"
 // being put back already.
 type act []func()
 
-// begin opens an act: what is noted from now on belongs to it.
-func (v *Venue) begin() { v.acts = append(v.acts, nil) }
+// begin opens an act and writes its line: what is noted from now on belongs to it.
+func (v *Venue) begin(line string) {
+	v.write(line)
+	v.acts = append(v.acts, nil)
+}
 
 // note keeps functions that put back what the act has just changed.
 func (v *Venue) note(backs ...func()) {

@@ -11,12 +11,13 @@ import (
 
 // Venue: symbols, orders, trades, the tape, the journal.
 type Venue struct {
-	books  map[string]*book.Book // by symbol
-	orders map[int]*book.Order   // by id; also those of which nothing is open
-	trades []*trade              // by number, from 1 on; also those that hold no longer
-	tape   []api.Record          // by number, from 1 on
-	day    int
-	acts   []act // those that are not undone
+	books   map[string]*book.Book // by symbol
+	orders  map[int]*book.Order   // by id; also those of which nothing is open
+	trades  []*trade              // by number, from 1 on; also those that hold no longer
+	tape    []api.Record          // by number, from 1 on
+	day     int
+	acts    []act // those that are not undone
+	journal []byte
 }
 
 // New makes a venue without anything.
@@ -25,7 +26,18 @@ func New() *Venue {
 }
 
 // Restore makes a venue of a journal (P12).
-func Restore(journal string) (*Venue, api.Errno, int) { return nil, api.OK, 0 }
+func Restore(journal string) (*Venue, api.Errno, int) {
+	v := New()
+	whole := journal[:strings.LastIndexByte(journal, '\n')+1] // what stands behind it is torn
+	number := 0
+	for line := range strings.Lines(whole) {
+		number++
+		if !v.redo(strings.TrimSuffix(line, "\n")) {
+			return nil, api.ErrJournal, number
+		}
+	}
+	return v, api.OK, 0
+}
 
 // List lets a symbol be traded (P3).
 func (v *Venue) List(symbol string) api.Errno {
@@ -38,7 +50,7 @@ func (v *Venue) List(symbol string) api.Errno {
 		return api.ErrLimit
 	}
 	own := strings.Clone(symbol) // the caller's text may be a piece of a long one, and is not kept
-	v.begin()
+	v.begin("list " + own)
 	v.books[own] = book.New(own)
 	v.note(func() { delete(v.books, own) })
 	return api.OK
@@ -52,7 +64,7 @@ func (v *Venue) Enter(o api.Order) (api.Report, api.Errno) {
 	b := v.books[o.Symbol]
 	o.Symbol = b.Symbol // the caller's text is not kept
 	order := book.NewOrder(o)
-	v.begin()
+	v.begin(lineOfEnter(o))
 	v.orders[o.ID] = order
 	v.note(func() { delete(v.orders, o.ID) })
 	return v.come(b, order), api.OK
@@ -67,7 +79,7 @@ func (v *Venue) Cancel(id int) api.Errno {
 	case o.Open == 0:
 		return api.ErrClosed
 	}
-	v.begin()
+	v.begin(lineOf("cancel", id))
 	v.note(v.books[o.Order.Symbol].Leave(o), o.CancelOpen())
 	return api.OK
 }
@@ -83,7 +95,7 @@ func (v *Venue) Replace(id int, price int, quantity int) (api.Report, api.Errno)
 	case !isNumber(price) || !isNumber(quantity):
 		return api.Report{}, api.ErrRange
 	}
-	v.begin()
+	v.begin(lineOf("replace", id, price, quantity))
 	if price == o.Order.Price && quantity <= o.Open {
 		v.note(o.Amend(price, quantity)) // it keeps its place
 		return api.Report{Rests: quantity}, api.OK
@@ -99,7 +111,7 @@ func (v *Venue) Bust(trade int, again bool) api.Errno {
 	if e != api.OK {
 		return e
 	}
-	v.begin()
+	v.begin(lineOfBust(trade, again))
 	t.holds = false
 	v.tell(api.Bust, t.Trade)
 	v.note(func() {
@@ -120,7 +132,7 @@ func (v *Venue) Correct(trade int, price int) api.Errno {
 	case !isNumber(price):
 		return api.ErrRange
 	}
-	v.begin()
+	v.begin(lineOf("correct", trade, price))
 	before := t.Price
 	v.setPrice(t, price)
 	v.note(func() { v.setPrice(t, before) })
@@ -129,7 +141,7 @@ func (v *Venue) Correct(trade int, price int) api.Errno {
 
 // Close ends the day (P9).
 func (v *Venue) Close() {
-	v.begin()
+	v.begin("close")
 	for _, o := range v.orders { // in whatever order they leave, and are put back, all have their ranks
 		if o.Order.Kind == api.Day && o.Open > 0 {
 			v.note(v.books[o.Order.Symbol].Leave(o), o.ExpireOpen())
@@ -146,6 +158,7 @@ func (v *Venue) Undo() api.Errno {
 	if last < 0 {
 		return api.ErrUndo
 	}
+	v.write("undo")
 	v.acts[last].putBack()
 	v.acts = slices.Delete(v.acts, last, last+1)
 	return api.OK
@@ -199,4 +212,4 @@ func (v *Venue) Tape(from int) []api.Record {
 }
 
 // Journal tells all acts (P12).
-func (v *Venue) Journal() string { return "" }
+func (v *Venue) Journal() string { return string(v.journal) }
